@@ -1,0 +1,1 @@
+"""Termseats: bodies whose seats come up in turns."""

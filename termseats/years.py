@@ -1,0 +1,127 @@
+"""Years: what comes up in them, and the stands behind them."""
+
+from termseats.errors import BadChoices, BadNumber
+from termseats.houses import is_sides, is_whole, need_house, need_stand
+
+LAST_YEAR = 10 ** 30
+MOST_ROWS = 400
+
+
+def need_number(number):
+    """The number of a year itself; BadNumber for any other value."""
+    if not is_whole(number, 0, LAST_YEAR):
+        raise BadNumber(number)
+    return number
+
+
+def need_choices(house, choices):
+    """The choices themselves; BadChoices(0) for any value that is no choices of the house."""
+    if not is_sides(choices, house[1]):
+        raise BadChoices(0)
+    return choices
+
+
+def need_rows(house, rows):
+    """The rows themselves; BadChoices for any value that is no rows of choices of the house."""
+    if not isinstance(rows, (list, tuple)) or len(rows) > MOST_ROWS:
+        raise BadChoices(None)
+    for place, choices in enumerate(rows):
+        if not is_sides(choices, house[1]):
+            raise BadChoices(place)
+    return rows
+
+
+def comes_up(seat, number):
+    """Whether a seat comes up in the year with a number."""
+    term, phase, _ = seat
+    return number % term == phase
+
+
+def side_with_more(letters):
+    """The side that has more of some letters, "=" if none has."""
+    ahead = letters.count("a") - letters.count("b")
+    if ahead == 0:
+        return "="
+    return "a" if ahead > 0 else "b"
+
+
+def _resting(body, letters, number):
+    """The letters of those seats of a body that do not come up in a year."""
+    return [letter for seat, letter in zip(body, letters) if not comes_up(seat, number)]
+
+
+def _filled(way, side, choices, wholes, rests):
+    """The side with which a seat that has a side is filled.
+
+    wholes and rests tell for each body who has more of all seats of it, and of those that rest.
+    """
+    if way[0] == "kept":
+        return side
+    if way[0] == "ward":
+        return choices[way[1]]
+    word, body, tie = way
+    more = wholes[body] if word == "body" else rests[body]
+    if more != "=":
+        return more
+    return side if tie == "kept" else tie
+
+
+def _body_behind(body, letters, number, choices, wholes, rests):
+    """The letters of a body behind a year."""
+    behind = []
+    for seat, side in zip(body, letters):
+        if comes_up(seat, number):
+            behind.append(_filled(seat[2], side, choices, wholes, rests))
+        else:
+            behind.append(side)
+    return "".join(behind)
+
+
+def stand_behind(house, stand, number, choices):
+    """The stand behind a year; the arguments are not looked at."""
+    bodies = house[0]
+    # Seats that come up are filled all at once, so who has more is counted ahead of all of them.
+    wholes = [side_with_more(letters) for letters in stand]
+    rests = [side_with_more(_resting(body, letters, number)) for body, letters in zip(bodies, stand)]
+    behind = []
+    for body, letters in zip(bodies, stand):
+        behind.append(_body_behind(body, letters, number, choices, wholes, rests))
+    return tuple(behind)
+
+
+def year(house, stand, number, choices):
+    """The stand behind the year with a number, by choices, from the stand ahead of it."""
+    need_stand(house, stand)
+    need_number(number)
+    need_choices(house, choices)
+    return stand_behind(house, stand, number, choices)
+
+
+def run(house, stand, rows):
+    """The stands behind the years from 0 on, by rows of choices."""
+    need_stand(house, stand)
+    need_rows(house, rows)
+    stands = []
+    now = stand
+    for number, choices in enumerate(rows):
+        now = stand_behind(house, now, number, choices)
+        stands.append(now)
+    return tuple(stands)
+
+
+def majorities(house, stand):
+    """For each body the side that has more seats, "=" if none has."""
+    need_stand(house, stand)
+    return tuple([side_with_more(letters) for letters in stand])
+
+
+def due_seats(house, number):
+    """The pairs of a body and a seat of it that comes up in the year with a number."""
+    need_house(house)
+    need_number(number)
+    due = []
+    for at, body in enumerate(house[0]):
+        for place, seat in enumerate(body):
+            if comes_up(seat, number):
+                due.append((at, place))
+    return tuple(due)
