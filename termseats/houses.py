@@ -2,7 +2,7 @@
 
 from math import lcm
 
-from termseats.errors import BadBand, BadHouse, BadStand
+from termseats.errors import BadBand, BadHouse, BadNumber, BadStand
 
 TIES = ("a", "b", "kept")
 MOST_WARDS = 4
@@ -71,15 +71,15 @@ def need_house(house):
     if not is_tuple(bodies, 1, MOST_BODIES):
         raise BadHouse("bodies")
     for number, body in enumerate(bodies):
-        _need_body(body, number, len(bodies), wards)
+        _need_seats(body, number, len(bodies), wards)
     if sum([len(body) for body in bodies]) > MOST_SEATS:
         raise BadHouse("seats")
-    if _common_term(bodies) > MOST_ROUND:
+    if common_term(bodies) > MOST_ROUND:
         raise BadHouse("round")
     return house
 
 
-def _need_body(body, number, many_bodies, wards):
+def _need_seats(body, number, many_bodies, wards):
     """BadHouse, with the place, for a body that is none or has a seat that is none."""
     if not is_tuple(body, 1, MOST_SEATS):
         raise BadHouse((number,))
@@ -88,7 +88,7 @@ def _need_body(body, number, many_bodies, wards):
             raise BadHouse((number, place))
 
 
-def _common_term(bodies):
+def common_term(bodies):
     """The least common multiple of all TERMS."""
     common = 1
     for body in bodies:
@@ -100,19 +100,30 @@ def _common_term(bodies):
 def house_round(house):
     """The round of a house."""
     need_house(house)
-    return _common_term(house[0])
+    return common_term(house[0])
+
+
+def is_stand(house, value):
+    """Whether a value is a stand of the house."""
+    bodies = house[0]
+    if not is_tuple(value, len(bodies), len(bodies)):
+        return False
+    return all([is_sides(letters, len(body)) for body, letters in zip(bodies, value)])
 
 
 def need_stand(house, stand):
     """The stand itself; BadStand for any value that is no stand of the house."""
     need_house(house)
-    bodies = house[0]
-    if not is_tuple(stand, len(bodies), len(bodies)):
+    if not is_stand(house, stand):
         raise BadStand(stand)
-    for body, letters in zip(bodies, stand):
-        if not is_sides(letters, len(body)):
-            raise BadStand(stand)
     return stand
+
+
+def need_body(house, body):
+    """The number of a body of the house itself; BadNumber for any other value."""
+    if not is_whole(body, 0, len(house[0]) - 1):
+        raise BadNumber(body)
+    return body
 
 
 def need_band(band):
@@ -125,3 +136,10 @@ def need_band(band):
     if not is_whole(gap, 1, MOST_GAP):
         raise BadBand("gap")
     return band
+
+
+def need_question(house, stand, band, body):
+    """Nothing; the exception that is due if what is asked of a body is not asked rightly."""
+    need_stand(house, stand)
+    need_band(band)
+    need_body(house, body)

@@ -1,8 +1,10 @@
 """Years: what comes up in them, and the stands behind them."""
 
+from termseats.bands import all_choices
 from termseats.errors import BadChoices, BadNumber
 from termseats.houses import is_sides, is_whole, need_house, need_stand
 
+SIDES = "ab"
 LAST_YEAR = 10 ** 30
 MOST_ROWS = 400
 
@@ -50,43 +52,62 @@ def _resting(body, letters, number):
     return [letter for seat, letter in zip(body, letters) if not comes_up(seat, number)]
 
 
-def _filled(way, side, choices, wholes, rests):
-    """The side with which a seat that has a side is filled.
+def _source(way, side, wholes, rests):
+    """The place in SIDES and then the choices of the side with which a seat that has a side is filled.
 
     wholes and rests tell for each body who has more of all seats of it, and of those that rest.
     """
     if way[0] == "kept":
-        return side
+        return SIDES.find(side)
     if way[0] == "ward":
-        return choices[way[1]]
+        return len(SIDES) + way[1]
     word, body, tie = way
     more = wholes[body] if word == "body" else rests[body]
     if more != "=":
-        return more
-    return side if tie == "kept" else tie
+        return SIDES.find(more)
+    return SIDES.find(side if tie == "kept" else tie)
 
 
-def _body_behind(body, letters, number, choices, wholes, rests):
-    """The letters of a body behind a year."""
-    behind = []
-    for seat, side in zip(body, letters):
-        if comes_up(seat, number):
-            behind.append(_filled(seat[2], side, choices, wholes, rests))
-        else:
-            behind.append(side)
-    return "".join(behind)
-
-
-def stand_behind(house, stand, number, choices):
-    """The stand behind a year; the arguments are not looked at."""
+def _sources(house, stand, number):
+    """For each body the places in SIDES and then the choices of its letters behind a year."""
     bodies = house[0]
     # Seats that come up are filled all at once, so who has more is counted ahead of all of them.
     wholes = [side_with_more(letters) for letters in stand]
     rests = [side_with_more(_resting(body, letters, number)) for body, letters in zip(bodies, stand)]
-    behind = []
+    sources = []
     for body, letters in zip(bodies, stand):
-        behind.append(_body_behind(body, letters, number, choices, wholes, rests))
-    return tuple(behind)
+        sources.append([
+            _source(seat[2], side, wholes, rests) if comes_up(seat, number) else SIDES.find(side)
+            for seat, side in zip(body, letters)])
+    return sources
+
+
+def _stand_of(sources, choices):
+    """The stand whose letters stand in these places in SIDES and then the choices."""
+    sides = SIDES + choices
+    return tuple(["".join([sides[at] for at in places]) for places in sources])
+
+
+def stand_behind(house, stand, number, choices):
+    """The stand behind a year; the arguments are not looked at."""
+    return _stand_of(_sources(house, stand, number), choices)
+
+
+class Stands:
+    """The stands behind the years of a house, each of which is worked out once."""
+
+    def __init__(self, house):
+        self.house = house
+        self.rows = all_choices(house[1])
+        self.known = {}
+
+    def by_choices(self, stand, number):
+        """A dict from all choices to the stand behind a year."""
+        key = (stand, number)
+        if key not in self.known:
+            sources = _sources(self.house, stand, number)
+            self.known[key] = {choices: _stand_of(sources, choices) for choices in self.rows}
+        return self.known[key]
 
 
 def year(house, stand, number, choices):

@@ -1,94 +1,133 @@
 import copy
 import inspect
+import random
 import unittest
 
-from termseats import houses, years
+from termseats import counts, houses, outlive, states, years
 from termseats.errors import SeatError
-from tests.things import some_cases, some_letters, things
+from tests.things import small_house, some_letters, some_stand, things
 
+# The module, the name, the parameters, and those that are passed by name alone.
 INTERFACE = (
-    (houses, "need_house", ("house",)), (houses, "need_stand", ("house", "stand")),
-    (houses, "need_band", ("band",)), (houses, "house_round", ("house",)),
-    (years, "year", ("house", "stand", "number", "choices")),
-    (years, "run", ("house", "stand", "rows")), (years, "majorities", ("house", "stand")),
-    (years, "due_seats", ("house", "number")))
+    (houses, "need_house", ("house",), ()), (houses, "need_stand", ("house", "stand"), ()),
+    (houses, "need_band", ("band",), ()), (houses, "house_round", ("house",), ()),
+    (years, "year", ("house", "stand", "number", "choices"), ()),
+    (years, "run", ("house", "stand", "rows"), ()), (years, "majorities", ("house", "stand"), ()),
+    (years, "due_seats", ("house", "number"), ()),
+    (states, "states", ("house", "stand", "band"), ()),
+    (states, "nexts", ("house", "stand", "band", "state"), ()),
+    (counts, "bounds", ("house", "stand", "band", "body"), ()),
+    (counts, "rows_to", ("house", "stand", "band", "body", "many"), ()),
+    (counts, "seats_paper", ("house", "stand", "band", "body"), ("least",)),
+    (counts, "check_seats", ("house", "stand", "band", "body", "paper"), ("least",)),
+    (outlive, "outlived", ("house", "stand", "band", "body"), ()),
+    (outlive, "outlive_paper", ("house", "stand", "band", "body"), ()),
+    (outlive, "check_outlive", ("house", "stand", "band", "body", "paper"), ()))
 
 
 def functions():
-    return [(getattr(module, name), parameters) for module, name, parameters in INTERFACE]
+    """The functions of the interface, each with its parameters, and with those by name alone."""
+    return [(getattr(module, name), parameters, named) for module, name, parameters, named in INTERFACE]
+
+
+def some_calls(many, seed):
+    """So many times for each function: the function, its arguments, and those by name alone."""
+    rng = random.Random(seed)
+    for _ in range(many):
+        bodies, wards = rng.randint(1, 3), rng.randint(0, 4)
+        house = small_house(rng, bodies, wards, rng.randint(bodies, 4))
+        given = right_arguments(rng, house, some_stand(rng, house))
+        for function, names, named in functions():
+            values = dict(given, paper=right_paper(function, given))
+            yield function, {name: values[name] for name in names}, {name: values[name] for name in named}
 
 
 def right_arguments(rng, house, stand):
-    """A right value for each name of a parameter."""
+    """A right value for each name of a parameter, but for papers."""
     return {
-        "house": house, "stand": stand, "band": (rng.choice((None, 0, 4)), rng.randint(1, 4)),
+        "house": house, "stand": stand, "band": (rng.choice((None, 0, 4)), rng.randint(1, 2)),
         "number": rng.randint(0, 10 ** 30), "choices": some_letters(rng, house[1]),
-        "rows": [some_letters(rng, house[1]) for _ in range(rng.randint(0, 9))]}
+        "rows": [some_letters(rng, house[1]) for _ in range(rng.randint(0, 9))],
+        "body": rng.randrange(len(house[0])), "many": rng.randint(0, 9), "state": (stand, 0, "", ()),
+        "least": rng.choice((False, True))}
 
 
-def answer(function, arguments):
+def right_paper(function, given):
+    question = [given[name] for name in ("house", "stand", "band", "body")]
+    if function is counts.check_seats:
+        return counts.seats_paper(*question, least=given["least"])
+    if function is outlive.check_outlive:
+        return outlive.outlive_paper(*question)
+    return None
+
+
+def answer(function, arguments, named):
     """What the function returns, or the error that it raises with its fields."""
     try:
-        return ("returned", function(*arguments))
+        return ("returned", function(*arguments, **named))
     except SeatError as error:
         return ("raised", type(error), vars(error))
 
 
 class Interface(unittest.TestCase):
     def test_each_function_is_defined_in_its_file(self):
-        for module, name, _ in INTERFACE:
+        for module, name, _, _ in INTERFACE:
             function = getattr(module, name)
             self.assertTrue(inspect.isfunction(function))
             self.assertEqual((function.__module__, function.__name__), (module.__name__, name))
             self.assertFalse(inspect.isgeneratorfunction(function))
 
     def test_parameters(self):
-        for function, names in functions():
+        for function, names, named in functions():
             parameters = inspect.signature(function).parameters.values()
-            self.assertEqual(tuple([one.name for one in parameters]), names)
+            self.assertEqual(tuple([one.name for one in parameters]), names + named)
             for one in parameters:
-                self.assertEqual(one.kind, one.POSITIONAL_OR_KEYWORD)
-                self.assertIs(one.default, one.empty)
+                if one.name in names:
+                    self.assertEqual((one.kind, one.default), (one.POSITIONAL_OR_KEYWORD, one.empty))
+                else:
+                    self.assertEqual((one.kind, one.default), (one.KEYWORD_ONLY, False))
 
     def test_arguments_by_position_and_by_name(self):
-        for rng, house, stand in some_cases(40, 21):
-            given = right_arguments(rng, house, stand)
-            for function, names in functions():
-                values = [given[name] for name in names]
-                told = function(*values)
-                for many in range(len(names)):
-                    by_name = dict(list(zip(names, values))[many:])
-                    self.assertEqual(function(*values[:many], **by_name), told)
-                turned = dict(list(zip(names, values))[::-1])
-                self.assertEqual(function(**turned), told)
+        for function, given, named in some_calls(25, 21):
+            names, values = list(given), list(given.values())
+            told = function(*values, **named)
+            for many in range(len(names)):
+                by_name = dict(list(zip(names, values))[many:])
+                self.assertEqual(function(*values[:many], **by_name, **named), told)
+            turned = dict(list({**given, **named}.items())[::-1])
+            self.assertEqual(function(**turned), told)
+
+    def test_least_by_name_alone(self):
+        for function, given, named in some_calls(3, 27):
+            if named:
+                with self.assertRaises(TypeError):
+                    function(*given.values(), *named.values())
+                if not named["least"]:
+                    self.assertEqual(function(*given.values()), function(*given.values(), least=False))
 
     def test_a_wrong_number_or_name_of_arguments(self):
-        for rng, house, stand in some_cases(1, 22):
-            given = right_arguments(rng, house, stand)
-            for function, names in functions():
-                values = [given[name] for name in names]
-                for arguments in (values[1:], values + [None]):
-                    with self.assertRaises(TypeError):
-                        function(*arguments)
+        for function, given, _ in some_calls(1, 22):
+            values = list(given.values())
+            for arguments in (values[1:], values + [None]):
                 with self.assertRaises(TypeError):
-                    function(*values, other=1)
+                    function(*arguments)
+            with self.assertRaises(TypeError):
+                function(*values, other=1)
 
 
 class Unchanged(unittest.TestCase):
     def test_what_is_passed_stays_as_it_was(self):
-        for rng, house, stand in some_cases(60, 23):
-            given = right_arguments(rng, house, stand)
+        for function, given, named in some_calls(40, 23):
             before = copy.deepcopy(given)
-            for function, names in functions():
-                function(*[given[name] for name in names])
-                self.assertEqual(given, before)
-                for name, value in given.items():
-                    self.assertIs(type(value), type(before[name]))
+            function(**given, **named)
+            self.assertEqual(given, before)
+            for name, value in given.items():
+                self.assertIs(type(value), type(before[name]))
 
     def test_what_is_refused_stays_as_it_was(self):
         wrong = [["a", "b"], ["a", ["b"]], {"a": ["b"]}, {1, 2}, [None] * 401, ([1], 0), ([[]], 2)]
         before = copy.deepcopy(wrong)
-        for function, names in functions():
+        for function, names, _ in functions():
             for thing in wrong:
                 with self.assertRaises(SeatError):
                     function(*[thing for _ in names])
@@ -101,29 +140,28 @@ class Unchanged(unittest.TestCase):
         self.assertEqual(wrong, before)
 
     def test_iterators_are_not_used_up(self):
-        for function, names in functions():
-            for at in range(len(names)):
+        right = {"house": ((((1, 0, ("ward", 0)),),), 1), "stand": ("a",), "number": 0, "choices": "a", "rows": (),
+                 "band": (None, 1), "body": 0, "many": 0, "state": None, "paper": None}
+        for function, names, _ in functions():
+            for name in names:
                 iterator = iter(["a", "b"])
-                arguments = [((((1, 0, ("ward", 0)),),), 1), ("a",), 0, "a"][:len(names)]
-                arguments[at] = iterator
-                with self.assertRaises(SeatError):
-                    function(*arguments)
+                given = {one: right[one] for one in names}
+                given[name] = iterator
+                kind, told, *_ = answer(function, list(given.values()), {})
+                self.assertEqual((kind, told) if name == "state" else kind,
+                                 ("returned", None) if name == "state" else "raised")
                 self.assertEqual(list(iterator), ["a", "b"])
 
 
 class Equal(unittest.TestCase):
     def test_equal_calls_return_equal_results(self):
-        calls = []
-        for rng, house, stand in some_cases(40, 24):
-            given = right_arguments(rng, house, stand)
-            for function, names in functions():
-                calls.append((function, [given[name] for name in names]))
-        first = [answer(function, values) for function, values in calls]
+        calls = [(function, list(given.values()), named) for function, given, named in some_calls(25, 24)]
+        first = [answer(*call) for call in calls]
         # Other calls stand between, refused ones too, and the order is another one.
         for thing in things():
-            for function, names in functions():
-                answer(function, [thing for _ in names])
-        turned = [answer(function, copy.deepcopy(values)) for function, values in calls[::-1]]
+            for function, names, _ in functions():
+                answer(function, [thing for _ in names], {})
+        turned = [answer(*copy.deepcopy(call)) for call in calls[::-1]]
         self.assertEqual(turned[::-1], first)
         self.assertEqual([kind for kind, *_ in first], ["returned"] * len(first))
 

@@ -5,6 +5,7 @@ import unittest
 from termseats.errors import BadChoices, BadHouse, BadNumber, BadStand
 from termseats.houses import house_round
 from termseats.years import due_seats, majorities, run, year
+from tests.plain import stand_by_the_document
 from tests.things import CHARACTERS, HUGE, all_ways, some_cases, some_letters, some_stand, things
 
 LAST = 10 ** 30
@@ -17,33 +18,6 @@ def only(way, bodies=1, wards=0, term=1, phase=0):
     """A house with one seat in its first body; the other bodies have three kept seats each."""
     kept = ((1, 0, ("kept",)),) * 3
     return ((((term, phase, way),),) + (kept,) * (bodies - 1), wards)
-
-
-def side_by_the_document(house, stand, number, choices, body, seat):
-    """The side of one seat behind a year, as point 12 tells it word by word."""
-    bodies = house[0]
-    term, phase, way = bodies[body][seat]
-    side = stand[body][seat]
-    if number % term != phase or way == ("kept",):
-        return side
-    if way[0] == "ward":
-        return choices[way[1]]
-    voters = {"a": 0, "b": 0}
-    for place, (other_term, other_phase, _) in enumerate(bodies[way[1]]):
-        if way[0] == "body" or number % other_term != other_phase:
-            voters[stand[way[1]][place]] += 1
-    if voters["a"] > voters["b"]:
-        return "a"
-    if voters["b"] > voters["a"]:
-        return "b"
-    return {"a": "a", "b": "b", "kept": side}[way[2]]
-
-
-def stand_by_the_document(house, stand, number, choices):
-    return tuple([
-        "".join([side_by_the_document(house, stand, number, choices, body, seat)
-                 for seat in range(len(seats))])
-        for body, seats in enumerate(house[0])])
 
 
 class Refusing(unittest.TestCase):

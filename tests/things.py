@@ -107,3 +107,77 @@ def some_cases(many, seed):
     for _ in range(many):
         house = some_house(rng)
         yield rng, house, some_stand(rng, house)
+
+
+BANDS = [(turn, gap) for turn in (None, 0, 1, 2, 3, 4) for gap in (1, 2, 3, 4)]
+
+
+def small_house(rng, bodies, wards, seats):
+    """A house of so many bodies and wards, with few states: its terms are short."""
+    terms = rng.choice([(1,), (1, 2), (2,), (2, 4), (1, 3), (3,)])
+    sizes = [1] * bodies
+    for _ in range(seats - bodies):
+        sizes[rng.randrange(bodies)] += 1
+    ways = all_ways(bodies, wards)
+    # Wards are to be among the ways more often than the many ties would have it.
+    ways += [("ward", rng.randrange(wards)) for _ in range(len(ways) // 2)] if wards else []
+    whole = []
+    for size in sizes:
+        chosen = [rng.choice(terms) for _ in range(size)]
+        whole.append(tuple([(term, rng.randrange(term), rng.choice(ways)) for term in chosen]))
+    return (tuple(whole), wards)
+
+
+def some_path(rng, value):
+    """The path of indexes to a thing within nested tuples, at any depth."""
+    path = ()
+    while isinstance(value, tuple) and value and rng.random() < 0.8:
+        at = rng.randrange(len(value))
+        path, value = path + (at,), value[at]
+    return path
+
+
+def at_path(value, path):
+    for at in path:
+        value = value[at]
+    return value
+
+
+def otherwise(rng, value):
+    """What may stand in the place of a value of nested tuples, strings and integers, much like it."""
+    if isinstance(value, bool) or value is None:
+        return rng.choice([0, 1, "", ()])
+    if isinstance(value, int):
+        return rng.choice([value + 1, value - 1, value == 1, -value, None, str(value), HUGE, 0])
+    if isinstance(value, str):
+        at = rng.randrange(len(value) + 1)
+        turned = {"a": "b", "b": "a"}.get(value[at:at + 1], "a")
+        return rng.choice([value[:at] + turned + value[at + 1:]] * 4 + [
+            value + "a", value[1:], value[:at] + "c" + value[at + 1:], tuple(value), list(value),
+            value.encode(), None, 0, value + "\n", ""])
+    if isinstance(value, tuple):
+        at = rng.randrange(len(value) + 1)
+        far = rng.randrange(len(value) + 1)
+        return rng.choice([value[:at] + value[at + 1:]] * 3 + [
+            value[:at] + value[far:far + 1] + value[at:], value[:at] + value[at:at + 1] * 2 + value[at + 1:],
+            value[::-1], list(value), (), None, value + (0,), value + ("a",), dict.fromkeys(range(len(value))),
+            tuple([list(one) if isinstance(one, tuple) else one for one in value])])
+    return None
+
+
+def changed(rng, value):
+    """A value of nested tuples with one part of it, at any depth, otherwise."""
+    path = some_path(rng, value)
+    return replaced(value, path, otherwise(rng, at_path(value, path)))
+
+
+def mixed_cases(seed, most_wards=4):
+    """Small houses of each number of bodies and wards, each with several bands: (rng, house, stand, band)."""
+    rng = random.Random(seed)
+    for wards in range(most_wards + 1):
+        for bodies in (1, 2, 3):
+            bands = [(None, 1)] + BANDS if wards < 4 else [(None, 1), (4, 1), (0, 1), (1, 1), (0, 3), (1, 2)]
+            for band in bands if wards else bands[:5]:
+                # Of many wards there are many choices behind each state, so the rest is kept small.
+                house = small_house(rng, bodies, wards, rng.randint(bodies, 5 if wards < 3 else 3))
+                yield rng, house, some_stand(rng, house), band

@@ -1,0 +1,77 @@
+"""States: to which of them choices within a band lead."""
+
+from termseats.bands import ANY, Turns, is_no_past, is_past
+from termseats.graphs import Reach
+from termseats.houses import common_term, is_stand, is_tuple, is_whole, need_band, need_stand
+from termseats.years import Stands
+
+
+def first_state(stand):
+    """The first state of a stand."""
+    return (stand, 0, "", ())
+
+
+class Steps:
+    """The years of a house within a band, from state to state."""
+
+    def __init__(self, house, band):
+        self.house = house
+        self.band = band
+        self.years = common_term(house[0])
+        self.turns = Turns(house[1], band, band != ANY)
+        self.stands = Stands(house)
+
+    def steps_from(self, state):
+        """A dict from the choices that may come at a state, ascending, to the state behind them."""
+        stand, number, last, ages = state
+        stands = self.stands.by_choices(stand, number)
+        later = (number + 1) % self.years
+        pasts = self.turns.pasts(last, ages)
+        return {choices: (stands[choices], later, past[0], past[1]) for choices, past in pasts.items()}
+
+    def is_state(self, value):
+        """Whether a value has the form of a state, whether it comes or not."""
+        if not is_tuple(value, 4, 4):
+            return False
+        stand, number, last, ages = value
+        if not is_stand(self.house, stand) or not is_whole(number, 0, self.years - 1):
+            return False
+        if is_no_past(last, ages):
+            return True
+        return self.band != ANY and is_past(self.house[1], self.band, last, ages)
+
+
+def states_behind(steps, state, rows):
+    """The states behind each year of rows from a state on; None for what is no tuple of choices that may come."""
+    if not isinstance(rows, tuple):
+        return None
+    told = []
+    for choices in rows:
+        leads = steps.steps_from(state)
+        if not isinstance(choices, str) or choices not in leads:
+            return None
+        state = leads[choices]
+        told.append(state)
+    return told
+
+
+def reach_of(house, stand, band):
+    """The states to which choices within the band lead; TooGreat of too many."""
+    return Reach(Steps(house, band), first_state(stand))
+
+
+def states(house, stand, band):
+    """All states to which choices within the band lead, the first one too."""
+    need_stand(house, stand)
+    need_band(band)
+    return tuple(sorted(list(reach_of(house, stand, band).table)))
+
+
+def nexts(house, stand, band, state):
+    """The pairs of choices that may come at a state, and the state behind; None for what is no state that comes."""
+    need_stand(house, stand)
+    need_band(band)
+    table = reach_of(house, stand, band).table
+    if not Steps(house, band).is_state(state) or state not in table:
+        return None
+    return tuple(table[state].items())
