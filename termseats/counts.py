@@ -1,9 +1,8 @@
 """Counts: how many seats of a body the side a can have at least and at most."""
 
 from termseats.errors import BadNumber, BadPaper
-from termseats.graphs import are_ascending
 from termseats.houses import MOST_SEATS, is_tuple, is_whole, need_question
-from termseats.states import Steps, first_state, reach_of, states_behind
+from termseats.states import Steps, first_state, is_table, reach_of, states_behind
 
 
 def _seats_of_a(state, body):
@@ -58,21 +57,14 @@ def check_seats(house, stand, band, body, paper, *, least=False):
     if not is_tuple(paper, 3, 3) or not is_whole(paper[0], 0, MOST_SEATS):
         raise BadPaper("form")
     value, table, rows = paper
-    steps = Steps(house, band)
+    steps = Steps(house, band, False)
     first = first_state(stand)
-    if not _is_table(steps, first, table) or not _is_within(steps, table, body, value, least):
+    if not is_table(steps, first, table) or not _is_within(steps, table, body, value, least):
         raise BadPaper("table")
     told = states_behind(steps, first, rows)
     if not told or _seats_of_a(told[-1], body) != value:
         raise BadPaper("rows")
     return value
-
-
-def _is_table(steps, first, table):
-    """Whether a value is an ascending tuple of states, the first one among them."""
-    if not isinstance(table, tuple) or not all([steps.is_state(state) for state in table]):
-        return False
-    return are_ascending(table) and first in table
 
 
 def _is_within(steps, table, body, value, least):

@@ -45,7 +45,7 @@ def outlive_paper(house, stand, band, body):
 def check_outlive(house, stand, band, body, paper):
     """The YEARS of a paper on how long, None of an endless one; BadPaper if it is not as told."""
     need_question(house, stand, band, body)
-    steps = Steps(house, band)
+    steps = Steps(house, band, False)
     first = first_state(stand)
     if is_tuple(paper, 4, 4) and is_word(paper[0], ("bounded",)):
         if not _is_bounded(steps, first, body, paper):

@@ -1,7 +1,7 @@
 """States: to which of them choices within a band lead."""
 
 from termseats.bands import ANY, Turns, is_no_past, is_past
-from termseats.graphs import Reach
+from termseats.graphs import Reach, are_ascending
 from termseats.houses import common_term, is_stand, is_tuple, is_whole, need_band, need_stand
 from termseats.years import Stands
 
@@ -12,13 +12,14 @@ def first_state(stand):
 
 
 class Steps:
-    """The years of a house within a band, from state to state."""
+    """The years of a house within a band, from state to state, or from full state to full state."""
 
-    def __init__(self, house, band):
+    def __init__(self, house, band, full):
         self.house = house
         self.band = band
+        self.full = full
         self.years = common_term(house[0])
-        self.turns = Turns(house[1], band, band != ANY)
+        self.turns = Turns(house[1], band, full or band != ANY)
         self.stands = Stands(house)
 
     def steps_from(self, state):
@@ -30,15 +31,16 @@ class Steps:
         return {choices: (stands[choices], later, past[0], past[1]) for choices, past in pasts.items()}
 
     def is_state(self, value):
-        """Whether a value has the form of a state, whether it comes or not."""
+        """Whether a value has the form of such a state, whether it comes or not."""
         if not is_tuple(value, 4, 4):
             return False
         stand, number, last, ages = value
         if not is_stand(self.house, stand) or not is_whole(number, 0, self.years - 1):
             return False
         if is_no_past(last, ages):
-            return True
-        return self.band != ANY and is_past(self.house[1], self.band, last, ages)
+            # Without wards this is a full state, too.
+            return not self.full or self.house[1] == 0
+        return self.turns.telling and is_past(self.house[1], self.band, last, ages)
 
 
 def states_behind(steps, state, rows):
@@ -55,9 +57,16 @@ def states_behind(steps, state, rows):
     return told
 
 
+def is_table(steps, first, value):
+    """Whether a value is an ascending tuple of states, the first one among them."""
+    if not isinstance(value, tuple) or not all([steps.is_state(state) for state in value]):
+        return False
+    return are_ascending(value) and first in value
+
+
 def reach_of(house, stand, band):
     """The states to which choices within the band lead; TooGreat of too many."""
-    return Reach(Steps(house, band), first_state(stand))
+    return Reach(Steps(house, band, False), first_state(stand))
 
 
 def states(house, stand, band):
@@ -72,6 +81,6 @@ def nexts(house, stand, band, state):
     need_stand(house, stand)
     need_band(band)
     table = reach_of(house, stand, band).table
-    if not Steps(house, band).is_state(state) or state not in table:
+    if not Steps(house, band, False).is_state(state) or state not in table:
         return None
     return tuple(table[state].items())

@@ -230,3 +230,206 @@ def are_heights(house, band, body, first, years, heights):
             if told not in known or (outlives(choices, told[0], body) and known[told] > height - 1):
                 return False
     return True
+
+
+def is_above(stand, other):
+    """Whether "a" has in a stand each seat that it has in another one."""
+    return all(stand[body][place] == "a"
+               for body, letters in enumerate(other) for place, letter in enumerate(letters) if letter == "a")
+
+
+def all_stands(house):
+    return list(itertools.product(*[all_rows(len(body)) for body in house[0]]))
+
+
+def ends_of(house):
+    return all_stands(house)[-1], all_stands(house)[0]
+
+
+def pair_graph_of(house, band):
+    """A dict from each pair state that comes, going on from both ends, to a dict from choices to that behind."""
+    first = ends_of(house) + (0, "", ())
+    ways = {first: ()}
+    graph = {}
+    waiting = [first]
+    for pair in waiting:
+        rows = ways[pair]
+        graph[pair] = {}
+        for choices in all_rows(house[1]):
+            if is_within(band, rows + (choices,)):
+                told = pair_behind_stands(house, pair, len(rows), choices) + (
+                    (len(rows) + 1) % round_of(house),) + past_of(band, rows + (choices,))
+                graph[pair][choices] = told
+                if told not in ways:
+                    ways[told] = rows + (choices,)
+                    waiting.append(told)
+    return graph
+
+
+def pair_behind_stands(house, pair, number, choices):
+    return tuple([stand_by_the_document(house, stand, number, choices) for stand in pair[:2]])
+
+
+def pair_behind(house, band, pair, choices):
+    """The pair state behind a year with choices, None if they may not come."""
+    lows, highs = [behind(house, band, (stand,) + pair[2:], choices) for stand in pair[:2]]
+    return None if lows is None else (lows[0],) + highs
+
+
+def pair_walk(house, band, pair, rows):
+    """The pair states behind each of rows, None if these are no tuple of choices that may come."""
+    if walk(house, band, pair[:1] + pair[2:], rows) is None:
+        return None
+    told = []
+    for choices in rows:
+        pair = pair_behind(house, band, pair, choices)
+        told.append(pair)
+    return told
+
+
+def is_unlike_pair(house, band, value):
+    """Whether a value has the form of a pair state of unlike stands, HIGH being above LOW."""
+    if type(value) is not tuple or len(value) != 5:
+        return False
+    low, high = value[:2]
+    if not is_state(house, band, (low,) + value[2:]) or not is_state(house, band, (high,) + value[2:]):
+        return False
+    return low != high and is_above(high, low)
+
+
+def memory_told(house, band, paper):
+    """N of a paper on memory, None of "apart", or the word with which it is refused, as point 43 tells it."""
+    first = ends_of(house) + (0, "", ())
+    if type(paper) is tuple and len(paper) == 4 and type(paper[0]) is str and paper[0] == "together":
+        _, many, rows, heights = paper
+        told = pair_walk(house, band, first, rows)
+        if told is None or not is_integer(many, 1, 10 ** 1000) or len(rows) != many - 1:
+            return "together"
+        low, high = ([first] + told)[-1][:2]
+        if low == high or type(heights) is not tuple:
+            return "together"
+        if not all(type(one) is tuple and len(one) == 2 for one in heights):
+            return "together"
+        if not all(is_unlike_pair(house, band, pair) and is_integer(height, 1, many) for pair, height in heights):
+            return "together"
+        known = dict(heights)
+        if not is_ascending(heights) or len(known) != len(heights) or first not in known:
+            return "together"
+        for pair, height in heights:
+            for choices in all_rows(house[1]):
+                told = pair_behind(house, band, pair, choices)
+                if told is not None and told[0] != told[1] and not known.get(told, many) <= height - 1:
+                    return "together"
+        return many
+    if type(paper) is tuple and len(paper) == 3 and type(paper[0]) is str and paper[0] == "apart":
+        _, ahead, ring = paper
+        if type(ahead) is not tuple or type(ring) is not tuple or ring == ():
+            return "apart"
+        told = pair_walk(house, band, first, ahead + ring)
+        if told is None:
+            return "apart"
+        start = ([first] + told)[len(ahead)]
+        return None if start[0] != start[1] and told[-1] == start else "apart"
+    return "form"
+
+
+def full_past_of(band, last, rows):
+    """LAST and AGES of the full state behind rows, LAST being the choices of the year ahead of them."""
+    if band == (None, 1):
+        return (((last,) + rows)[-1], (0,) * len(last))
+    return past_of(band, (last,) + rows)
+
+
+def full_graph_of(house, stand, last, band):
+    """A dict from each full state that comes to a dict from choices to the one behind, going on year by year."""
+    first = (stand, 0, last, (0,) * house[1])
+    ways = {first: ()}
+    graph = {}
+    waiting = [first]
+    for state in waiting:
+        rows = ways[state]
+        graph[state] = {}
+        for choices in all_rows(house[1]):
+            if is_within(band, (last,) + rows + (choices,)):
+                told = (stand_by_the_document(house, state[0], len(rows), choices),
+                        (len(rows) + 1) % round_of(house)) + full_past_of(band, last, rows + (choices,))
+                graph[state][choices] = told
+                if told not in ways:
+                    ways[told] = rows + (choices,)
+                    waiting.append(told)
+    return graph
+
+
+def is_full(house, band, value):
+    """Whether a value has the form of a full state."""
+    if type(value) is not tuple or len(value) != 4 or not is_state(house, band, (value[0], value[1], "", ())):
+        return False
+    last, ages = value[2:]
+    return type(last) is str and type(ages) is tuple and is_past(house, band, last, ages)
+
+
+def full_behind(house, band, state, choices):
+    """The full state behind a year with choices, None if they may not come."""
+    stand, number, last, ages = state
+    turned = turned_wards(last, choices)
+    if (band[0] is not None and len(turned) > band[0]) or any(ages[ward] for ward in turned):
+        return None
+    later = [band[1] - 1 if ward in turned else max(0, ages[ward] - 1) for ward in range(len(choices))]
+    return (stand_by_the_document(house, stand, number, choices), (number + 1) % round_of(house),
+            choices, tuple(later))
+
+
+def all_full_behind(house, band, state):
+    """Triples for all choices that may come: what the year costs, the full state behind, and the choices."""
+    told = [(len(turned_wards(state[2], choices)), full_behind(house, band, state, choices), choices)
+            for choices in all_rows(house[1])]
+    return [one for one in told if one[1] is not None]
+
+
+def has_body(state, body):
+    return state[0][body].count("a") > state[0][body].count("b")
+
+
+def take_told(house, stand, last, band, body, paper):
+    """COST of a paper on taking a body, None of "never", or the word with which it is refused, as point 49 tells."""
+    first = (stand, 0, last, (0,) * house[1])
+    if type(paper) is tuple and len(paper) == 4 and type(paper[0]) is str and paper[0] == "cost":
+        return cost_told(house, band, body, first, paper)
+    if type(paper) is tuple and len(paper) == 2 and type(paper[0]) is str and paper[0] == "never":
+        table = paper[1]
+        if type(table) is not tuple or not all(is_full(house, band, state) for state in table):
+            return "never"
+        if not is_ascending(table) or first not in table:
+            return "never"
+        for state in table:
+            for _, told, _ in all_full_behind(house, band, state):
+                if told not in table or has_body(told, body):
+                    return "never"
+        return None
+    return "form"
+
+
+def cost_told(house, band, body, first, paper):
+    _, cost, rows, prices = paper
+    if type(rows) is not tuple or rows == () or not is_integer(cost, 0, 10 ** 9) or type(prices) is not tuple:
+        return "cost"
+    state, paid = first, 0
+    for choices in rows:
+        ways = {one[2]: one for one in all_full_behind(house, band, state)}
+        if type(choices) is not str or choices not in ways:
+            return "cost"
+        paid, state = paid + ways[choices][0], ways[choices][1]
+    if paid != cost or not has_body(state, body):
+        return "cost"
+    if not all(type(one) is tuple and len(one) == 2 for one in prices):
+        return "cost"
+    if not all(is_full(house, band, state) and is_integer(price, 1, 10 ** 9) for state, price in prices):
+        return "cost"
+    known = dict(prices)
+    if not is_ascending(prices) or len(known) != len(prices) or (cost > 0 and known.get(first, 0) < cost):
+        return "cost"
+    for state, price in prices:
+        for paid, told, _ in all_full_behind(house, band, state):
+            if price > paid + (0 if has_body(told, body) else known.get(told, 0)):
+                return "cost"
+    return cost

@@ -3,7 +3,7 @@ import inspect
 import random
 import unittest
 
-from termseats import counts, houses, outlive, states, years
+from termseats import counts, holds, houses, memory, orders, outlive, states, takes, years
 from termseats.errors import SeatError
 from tests.things import small_house, some_letters, some_stand, things
 
@@ -22,7 +22,20 @@ INTERFACE = (
     (counts, "check_seats", ("house", "stand", "band", "body", "paper"), ("least",)),
     (outlive, "outlived", ("house", "stand", "band", "body"), ()),
     (outlive, "outlive_paper", ("house", "stand", "band", "body"), ()),
-    (outlive, "check_outlive", ("house", "stand", "band", "body", "paper"), ()))
+    (outlive, "check_outlive", ("house", "stand", "band", "body", "paper"), ()),
+    (orders, "is_above", ("house", "stand", "other"), ()), (orders, "are_above", ("house", "rows", "others"), ()),
+    (orders, "lower", ("house", "stand", "other"), ()), (orders, "upper", ("house", "stand", "other"), ()),
+    (orders, "ends", ("house",), ()), (orders, "mirrored", ("house",), ()),
+    (orders, "mirrored_stand", ("house", "stand"), ()),
+    (memory, "forgets_in", ("house", "band"), ()), (memory, "memory_paper", ("house", "band"), ()),
+    (memory, "check_memory", ("house", "band", "paper"), ()),
+    (holds, "stand_with", ("house", "seats"), ()), (holds, "is_hold", ("house", "seats", "body"), ()),
+    (holds, "least_holds", ("house", "body"), ()),
+    (holds, "surely_from", ("house", "stand", "wards", "body"), ()),
+    (holds, "least_helps", ("house", "stand", "body"), ()),
+    (takes, "cheapest", ("house", "stand", "last", "band", "body"), ()),
+    (takes, "take_paper", ("house", "stand", "last", "band", "body"), ()),
+    (takes, "check_take", ("house", "stand", "last", "band", "body", "paper"), ()))
 
 
 def functions():
@@ -44,10 +57,12 @@ def some_calls(many, seed):
 
 def right_arguments(rng, house, stand):
     """A right value for each name of a parameter, but for papers."""
+    rows = [some_letters(rng, house[1]) for _ in range(rng.randint(0, 9))]
     return {
-        "house": house, "stand": stand, "band": (rng.choice((None, 0, 4)), rng.randint(1, 2)),
+        "house": house, "stand": stand, "other": some_stand(rng, house), "last": some_letters(rng, house[1]),
+        "others": [some_letters(rng, house[1]) for _ in rows], "seats": ((0, 0),), "wards": tuple(range(house[1])), "band": (rng.choice((None, 0, 4)), rng.randint(1, 2)),
         "number": rng.randint(0, 10 ** 30), "choices": some_letters(rng, house[1]),
-        "rows": [some_letters(rng, house[1]) for _ in range(rng.randint(0, 9))],
+        "rows": rows,
         "body": rng.randrange(len(house[0])), "many": rng.randint(0, 9), "state": (stand, 0, "", ()),
         "least": rng.choice((False, True))}
 
@@ -58,6 +73,10 @@ def right_paper(function, given):
         return counts.seats_paper(*question, least=given["least"])
     if function is outlive.check_outlive:
         return outlive.outlive_paper(*question)
+    if function is memory.check_memory:
+        return memory.memory_paper(given["house"], given["band"])
+    if function is takes.check_take:
+        return takes.take_paper(*question[:2], given["last"], *question[2:])
     return None
 
 
@@ -141,7 +160,8 @@ class Unchanged(unittest.TestCase):
 
     def test_iterators_are_not_used_up(self):
         right = {"house": ((((1, 0, ("ward", 0)),),), 1), "stand": ("a",), "number": 0, "choices": "a", "rows": (),
-                 "band": (None, 1), "body": 0, "many": 0, "state": None, "paper": None}
+                 "band": (None, 1), "body": 0, "many": 0, "state": None, "paper": None, "other": ("a",), "others": (),
+                 "last": "a", "seats": (), "wards": ()}
         for function, names, _ in functions():
             for name in names:
                 iterator = iter(["a", "b"])

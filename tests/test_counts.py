@@ -370,7 +370,7 @@ class FirstArgument(unittest.TestCase):
 
     def test_a_paper_on_more_than_20000_states(self):
         house, stand, band = TOO_MANY_CASE
-        steps, first = Steps(house, band), (stand, 0, "", ())
+        steps, first = Steps(house, band, False), (stand, 0, "", ())
         whole, waiting = {first: ()}, [first]
         for state in waiting:
             for choices, behind in steps.steps_from(state).items():

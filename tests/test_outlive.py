@@ -234,7 +234,8 @@ class Papers(unittest.TestCase):
             more = tuple(sorted(heights + ((state, 0),)))
             self.assertNotIn(state, [one for one, _ in heights])
             self.assert_told(case, paper[:3] + (more,), 0)
-        for state in ((("b",), 1, "", ()), (("b",), 0, "b", ()), (("b",), 0, "", (0,)), (("b",), 0, "b", (2,)),
+        for state in ((("b",), -1, "b", (0,)), (("b",), 0, "b", (-1,)), (("b",), -1, "", ()), (("b",), 0, "b", (True,)),
+                      (("b",), False, "b", (0,)), (("b",), 1, "", ()), (("b",), 0, "b", ()), (("b",), 0, "", (0,)), (("b",), 0, "b", (2,)),
                       (("ab",), 0, "b", (0,)), (("b",), 0, "ab", (0,)), (("b",), 0, "b", (0, 0))):
             more = tuple(sorted(heights + ((state, 0),)))
             self.assert_told(case, paper[:3] + (more,), "bounded")
