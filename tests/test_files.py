@@ -1,7 +1,9 @@
 """The rules for the files of the package that a short test can see; LANGUAGE.md has all of them."""
 
 import ast
+import builtins
 import pathlib
+import re
 import unittest
 
 PACKAGE = pathlib.Path(__file__).resolve().parent.parent / "termseats"
@@ -9,6 +11,35 @@ LIBRARY = {
     "heapq": {"heappush", "heappop", "heapify", "heapreplace", "heappushpop"},
     "math": {"gcd", "lcm", "isqrt", "comb", "perm", "factorial"},
     "itertools": {"product", "combinations", "permutations"}}
+BUILTINS = set("""len range enumerate zip min max sum abs sorted reversed int str bool list tuple dict set isinstance ord
+    any all divmod ValueError OverflowError""".split())
+METHODS = set("""append clear copy count endswith extend find get index insert isalnum isalpha isdigit items join keys
+    ljust lower lstrip partition pop remove replace reverse rfind rjust rpartition rsplit rstrip setdefault split
+    splitlines startswith strip update upper values zfill""".split())
+WORDS = set("""type typing typing_extensions enum Enum IntEnum StrEnum Flag IntFlag Generic Protocol ABC ABCMeta
+    namedtuple NamedTuple TypedDict TYPE_CHECKING abstractmethod dataclass overload contextmanager register mro elements
+    open input law eval exec exit getattr setattr vars globals locals compile id dir super os gc""".split())
+
+
+def bound_names(function):
+    """The names of the parameters and the variables of a function, and of all within it."""
+    names = {one.arg for one in ast.walk(function) if isinstance(one, ast.arg)}
+    return names | {one.id for one in ast.walk(function) if isinstance(one, ast.Name) and isinstance(one.ctx, ast.Store)}
+
+
+def names_of_module(tree):
+    """The names of imports and classes, and those of functions and values, of a file."""
+    first, second = set(), set()
+    for node in tree.body:
+        if isinstance(node, ast.ImportFrom):
+            first |= {alias.name for alias in node.names}
+        elif isinstance(node, ast.ClassDef):
+            first.add(node.name)
+        elif isinstance(node, ast.FunctionDef):
+            second.add(node.name)
+        elif isinstance(node, ast.Assign):
+            second.add(node.targets[0].id)
+    return first, second
 
 
 class Files(unittest.TestCase):
@@ -56,6 +87,49 @@ class Files(unittest.TestCase):
                 if isinstance(node, ast.Constant):
                     self.assertNotIsInstance(node.value, (float, complex), path)
                 self.assertNotIsInstance(node, (ast.Div, ast.Global, ast.AsyncFunctionDef), path)
+
+    def test_no_name_means_two_things(self):
+        for path, tree in self.trees:
+            first, second = names_of_module(tree)
+            self.assertEqual(first & second, set(), path)
+            for node in ast.walk(tree):
+                if isinstance(node, (ast.FunctionDef, ast.Lambda)):
+                    self.assertEqual(bound_names(node) & (first | second), set(), path)
+                    self.assertEqual(bound_names(node) & set(dir(builtins)), set(), path)
+            self.assertEqual((first | second) & set(dir(builtins)), set(), path)
+
+    def test_builtins_and_methods(self):
+        own = {node.name for _, tree in self.trees for node in ast.walk(tree) if isinstance(node, ast.FunctionDef)}
+        for path, tree in self.trees:
+            for node in ast.walk(tree):
+                if isinstance(node, ast.Name) and node.id in dir(builtins):
+                    self.assertIn(node.id, BUILTINS, path)
+                if isinstance(node, ast.Call) and isinstance(node.func, ast.Attribute):
+                    self.assertIn(node.func.attr, METHODS | own, path)
+                self.assertNotIsInstance(node, ast.GeneratorExp, path)
+                if isinstance(node, ast.Constant) and isinstance(node.value, str):
+                    self.assertNotIn("%", node.value, path)
+
+    def test_words_that_are_not_used(self):
+        for path in self.files:
+            self.assertEqual(set(re.findall(r"[A-Za-z_]+", path.read_text())) & WORDS, set(), path)
+
+    def test_files_import_from_one_another_in_one_order(self):
+        ahead = {path.stem: [node.module.split(".")[-1] for node in tree.body
+                             if isinstance(node, ast.ImportFrom) and node.module not in LIBRARY]
+                 for path, tree in self.trees}
+        while ahead:
+            first = [name for name, others in ahead.items() if not set(others) & set(ahead)]
+            self.assertNotEqual(first, [], ahead)
+            for name in first:
+                del ahead[name]
+
+    def test_what_is_imported_is_used(self):
+        for path, tree in self.trees:
+            used = {node.id for node in ast.walk(tree) if isinstance(node, ast.Name)}
+            for node in tree.body:
+                if isinstance(node, ast.ImportFrom):
+                    self.assertLessEqual({alias.name for alias in node.names}, used, path)
 
 
 if __name__ == "__main__":
