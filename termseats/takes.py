@@ -48,34 +48,26 @@ class Search:
             self._look_at(min(list(self.waiting)))
 
     def _look_at(self, cost):
-        """Look at all states that come at a cost, those behind years that cost nothing too."""
+        """Look at the states that wait at a cost, the least one."""
         level = self.waiting.pop(cost)
-        while level and self.least is None:
-            fresh = []
-            for state, way in level:
-                # The first state takes nothing before a year has led to it.
-                if way is not None and _is_taken(state, self.body):
-                    self.least = cost
-                    self.rows = self._rows_by(way)
-                    break
-                if state not in self.costs:
-                    self.costs[state] = cost
-                    self.ways[state] = way
-                    fresh.extend(self._behind_for_nothing(state, cost))
-            level = fresh
+        for state, way in level:
+            # The first state takes nothing before a year has led to it.
+            if way is not None and _is_taken(state, self.body):
+                self.least = cost
+                self.rows = self._rows_by(way)
+                return
+            if state not in self.costs:
+                self.costs[state] = cost
+                self.ways[state] = way
+                self._let_wait_behind(state, cost)
 
-    def _behind_for_nothing(self, state, cost):
-        """The states behind years that cost nothing; those behind other years wait for their cost."""
+    def _let_wait_behind(self, state, cost):
+        """Let the states behind one wait at what they cost, which may be as little as this one."""
         if len(self.costs) > MOST_STATES:
             raise TooGreat(MOST_STATES)
-        fresh = []
         for choices, behind in self.steps.steps_from(state).items():
-            price = turned(state[2], choices)
-            if price == 0:
-                fresh.append((behind, (state, choices)))
-            else:
-                self.waiting.setdefault(cost + price, []).append((behind, (state, choices)))
-        return fresh
+            price = cost + turned(state[2], choices)
+            self.waiting.setdefault(price, []).append((behind, (state, choices)))
 
     def _rows_by(self, way):
         """The choices of all years that lead to a state, way being the last of them."""
