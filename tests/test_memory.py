@@ -264,6 +264,9 @@ class Papers(unittest.TestCase):
                  right[:2] + (2, "b", (0, 0)), (("aaa",), ("aab",)) + right[2:]]
         put = lambda pair: (word, many, rows, tuple(sorted(heights + ((pair, 1),))))
         self.assert_told(case, put(right), 3)
+        for height in (0, -1, 4, True):
+            wrong_height = tuple(sorted(heights + ((right, height),)))
+            self.assert_told(case, (word, many, rows, wrong_height), "together")
         self.assert_told(case, put(right[:2] + (2, "", ())), 3)
         for pair in wrong:
             self.assert_told(case, put(pair), "together")

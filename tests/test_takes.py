@@ -286,6 +286,8 @@ class Papers(unittest.TestCase):
         self.assert_told(case, ("cost", 0, ("a",), (((("b",), 0, "a", (0,)), 1),)), "cost")
         self.assert_told(case, ("cost", 0, ("a",), (((("b",), 0, "b", (0,)), 1),)), 0)
         self.assert_told(case, ("cost", 0, ("a",), (((("b",), 0, "b", (0,)), 2),)), "cost")
+        for price in (0, -1):
+            self.assert_told(case, ("cost", 0, ("a",), (((("b",), 0, "b", (0,)), price),)), "cost")
 
     def test_a_cost_that_is_not_the_least_one(self):
         case = (THREE, ("bbb",), "abb", ANY, 0)
