@@ -268,10 +268,15 @@ class Papers(unittest.TestCase):
             wrong_height = tuple(sorted(heights + ((right, height),)))
             self.assert_told(case, (word, many, rows, wrong_height), "together")
         self.assert_told(case, put(right[:2] + (2, "", ())), 3)
+        # Behind the year 3, which is the year 0 of the next round, these would be alike too.
+        wrong += [(("baa",), ("aaa",), 3, "b", (1,)), (("baa",), ("aaa",), False, "b", (1,))]
+        self.assert_told(case, put((("baa",), ("aaa",), 0, "b", (1,))), 3)
         for pair in wrong:
             self.assert_told(case, put(pair), "together")
         paper = memory_paper(SLOW, ANY)
         more = tuple(sorted(paper[3] + ((right, 1),)))
+        self.assert_told((SLOW, ANY), paper[:3] + (more,), "together")
+        more = tuple(sorted(paper[3] + ((right[:2] + (2, "b", (0,)), 1),)))
         self.assert_told((SLOW, ANY), paper[:3] + (more,), "together")
         no_wards = ((((1, 0, ("rest", 0, "a")),),), 0)
         for band in (ANY, (0, 2)):
