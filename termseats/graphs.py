@@ -13,6 +13,19 @@ def are_ascending(values):
     return all([one < other for one, other in zip(values, values[1:])])
 
 
+def rows_by(ways, way):
+    """The choices of all years up to a way: a pair of a state and choices there, None without any.
+
+    ways is a dict from each state to such a pair that leads to it, None for the first one.
+    """
+    rows = []
+    while way is not None:
+        state, choices = way
+        rows.append(choices)
+        way = ways[state]
+    return tuple(rows[::-1])
+
+
 class Reach:
     """The states to which the first one leads, those behind fewer years ahead of those behind more.
 
@@ -42,13 +55,7 @@ class Reach:
 
     def rows_to(self, state):
         """As few choices as can be that lead from the first state to this one, as a tuple."""
-        rows = []
-        way = self.ways[state]
-        while way is not None:
-            ahead, choices = way
-            rows.append(choices)
-            way = self.ways[ahead]
-        return tuple(rows[::-1])
+        return rows_by(self.ways, self.ways[state])
 
 
 def most_steps(table):

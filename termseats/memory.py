@@ -13,7 +13,7 @@ class PairSteps:
     """The years of a house within a band, from one pair state of unlike stands to another."""
 
     def __init__(self, house, band):
-        self.house = house
+        self.given_house = house
         self.band = band
         self.years = common_term(house[0])
         self.turns = Turns(house[1], band, band != ANY)
@@ -35,13 +35,13 @@ class PairSteps:
         if not is_tuple(value, 5, 5):
             return False
         low, high, number, last, ages = value
-        if not is_stand(self.house, low) or not is_stand(self.house, high):
+        if not is_stand(self.given_house, low) or not is_stand(self.given_house, high):
             return False
         if low == high or not stand_above(high, low) or not is_whole(number, 0, self.years - 1):
             return False
         if is_no_past(last, ages):
             return True
-        return self.turns.telling and is_past(self.house[1], self.band, last, ages)
+        return self.turns.telling and is_past(self.given_house[1], self.band, last, ages)
 
 
 def _first_pair(house):

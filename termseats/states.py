@@ -15,7 +15,7 @@ class Steps:
     """The years of a house within a band, from state to state, or from full state to full state."""
 
     def __init__(self, house, band, full):
-        self.house = house
+        self.given_house = house
         self.band = band
         self.full = full
         self.years = common_term(house[0])
@@ -35,12 +35,12 @@ class Steps:
         if not is_tuple(value, 4, 4):
             return False
         stand, number, last, ages = value
-        if not is_stand(self.house, stand) or not is_whole(number, 0, self.years - 1):
+        if not is_stand(self.given_house, stand) or not is_whole(number, 0, self.years - 1):
             return False
         if is_no_past(last, ages):
             # Without wards this is a full state, too.
-            return not self.full or self.house[1] == 0
-        return self.turns.telling and is_past(self.house[1], self.band, last, ages)
+            return not self.full or self.given_house[1] == 0
+        return self.turns.telling and is_past(self.given_house[1], self.band, last, ages)
 
 
 def states_behind(steps, state, rows):

@@ -2,7 +2,7 @@
 
 from termseats.bands import turned
 from termseats.errors import BadPaper, TooGreat
-from termseats.graphs import MOST_STATES, are_ascending
+from termseats.graphs import MOST_STATES, are_ascending, rows_by
 from termseats.houses import is_tuple, is_whole, is_word, need_band, need_body, need_stand
 from termseats.states import Steps, is_table, states_behind
 from termseats.years import need_choices, side_with_more
@@ -54,7 +54,7 @@ class Search:
             # The first state takes nothing before a year has led to it.
             if way is not None and _is_taken(state, self.body):
                 self.least = cost
-                self.rows = self._rows_by(way)
+                self.rows = rows_by(self.ways, way)
                 return
             if state not in self.costs:
                 self.costs[state] = cost
@@ -68,15 +68,6 @@ class Search:
         for choices, behind in self.steps.steps_from(state).items():
             price = cost + turned(state[2], choices)
             self.waiting.setdefault(price, []).append((behind, (state, choices)))
-
-    def _rows_by(self, way):
-        """The choices of all years that lead to a state, way being the last of them."""
-        rows = []
-        while way is not None:
-            state, choices = way
-            rows.append(choices)
-            way = self.ways[state]
-        return tuple(rows[::-1])
 
 
 def cheapest(house, stand, last, band, body):

@@ -2,7 +2,7 @@
 
 from termseats.bands import all_choices
 from termseats.errors import BadChoices, BadNumber
-from termseats.houses import is_sides, is_whole, need_house, need_stand
+from termseats.houses import common_term, is_sides, is_whole, need_house, need_stand
 
 SIDES = "ab"
 LAST_YEAR = 10 ** 30
@@ -34,9 +34,8 @@ def need_rows(house, rows):
 
 
 def comes_up(seat, number):
-    """Whether a seat comes up in the year with a number."""
-    term, phase, _ = seat
-    return number % term == phase
+    """Whether a seat, or a group of like seats, comes up in the year with a number."""
+    return number % seat[0] == seat[1]
 
 
 def side_with_more(letters):
@@ -68,46 +67,67 @@ def _source(way, side, wholes, rests):
     return SIDES.find(side if tie == "kept" else tie)
 
 
-def _sources(house, stand, number):
-    """For each body the places in SIDES and then the choices of its letters behind a year."""
+def sources(bodies, stand, number, wholes, rests):
+    """For each body the places in SIDES and then the choices of its letters behind a year.
+
+    wholes and rests tell for each body who has more of all seats of it, and of those that do not come up.
+    """
+    places = []
+    for body, letters in zip(bodies, stand):
+        places.append([
+            _source(seat[2], side, wholes, rests) if comes_up(seat, number) else SIDES.find(side)
+            for seat, side in zip(body, letters)])
+    return places
+
+
+def _house_sources(house, stand, number):
+    """The places of all letters of a house behind a year."""
     bodies = house[0]
     # Seats that come up are filled all at once, so who has more is counted ahead of all of them.
     wholes = [side_with_more(letters) for letters in stand]
     rests = [side_with_more(_resting(body, letters, number)) for body, letters in zip(bodies, stand)]
-    sources = []
-    for body, letters in zip(bodies, stand):
-        sources.append([
-            _source(seat[2], side, wholes, rests) if comes_up(seat, number) else SIDES.find(side)
-            for seat, side in zip(body, letters)])
-    return sources
+    return sources(bodies, stand, number, wholes, rests)
 
 
-def _stand_of(sources, choices):
+def stand_of(places, choices):
     """The stand whose letters stand in these places in SIDES and then the choices."""
     sides = SIDES + choices
-    return tuple(["".join([sides[at] for at in places]) for places in sources])
+    return tuple(["".join([sides[at] for at in row]) for row in places])
 
 
 def stand_behind(house, stand, number, choices):
     """The stand behind a year; the arguments are not looked at."""
-    return _stand_of(_sources(house, stand, number), choices)
+    return stand_of(_house_sources(house, stand, number), choices)
+
+
+def sides_with_more(stand):
+    """For each body the side that has more seats, "=" if none has; the argument is not looked at."""
+    return tuple([side_with_more(letters) for letters in stand])
 
 
 class Stands:
-    """The stands behind the years of a house, each of which is worked out once."""
+    """The stands behind the years of a house, and the majorities in them, each of which is worked out once."""
 
     def __init__(self, house):
-        self.house = house
+        self.given_house = house
+        self.years = common_term(house[0])
         self.rows = all_choices(house[1])
         self.known = {}
+        self.known_more = {}
 
     def by_choices(self, stand, number):
         """A dict from all choices to the stand behind a year."""
-        key = (stand, number)
+        key = (stand, number % self.years)
         if key not in self.known:
-            sources = _sources(self.house, stand, number)
-            self.known[key] = {choices: _stand_of(sources, choices) for choices in self.rows}
+            places = _house_sources(self.given_house, stand, number)
+            self.known[key] = {choices: stand_of(places, choices) for choices in self.rows}
         return self.known[key]
+
+    def with_more(self, stand):
+        """For each body the side that has more seats, "=" if none has."""
+        if stand not in self.known_more:
+            self.known_more[stand] = sides_with_more(stand)
+        return self.known_more[stand]
 
 
 def year(house, stand, number, choices):
@@ -133,7 +153,7 @@ def run(house, stand, rows):
 def majorities(house, stand):
     """For each body the side that has more seats, "=" if none has."""
     need_stand(house, stand)
-    return tuple([side_with_more(letters) for letters in stand])
+    return sides_with_more(stand)
 
 
 def due_seats(house, number):
