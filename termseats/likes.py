@@ -88,7 +88,8 @@ def _bodies_under(house, body):
     waiting = [body]
     while waiting:
         number = waiting.pop()
-        for _, _, way in house[0][number]:
+        for seat in house[0][number]:
+            way = seat[2]
             # Such a way is that of "body" or "rest", and has the number of a body.
             if len(way) == 3 and way[1] not in found:
                 found[way[1]] = True

@@ -8,8 +8,6 @@ from termseats.years import comes_up, need_rows, sources, stand_of
 MOST_GROUPS = 4
 MOST_MANY = 10 ** 30
 MOST_SIZE = 9
-# How many seats each sign of a lot counts for "a" ahead of "b".
-COUNTS = {"-": 0, "a": 1, "b": -1}
 
 
 def _is_group(value, many_bodies, wards):
@@ -59,10 +57,11 @@ def _sizes(wide):
 
 def _side_of(lot, many):
     """The side that has more of the seats that a lot counts, many being those of each group, "=" if none has."""
-    ahead = sum([COUNTS[sign] * size for sign, size in zip(lot, many)])
-    if ahead == 0:
+    first = sum([size for sign, size in zip(lot, many) if sign == "a"])
+    second = sum([size for sign, size in zip(lot, many) if sign == "b"])
+    if first == second:
         return "="
-    return "a" if ahead > 0 else "b"
+    return "a" if first > second else "b"
 
 
 def _all_lots(groups):
@@ -153,7 +152,7 @@ def _body_like_sizes(many, greatest):
     """The like sizes of a body, many being the seats of each group of it; None if there are none."""
     lots = _all_lots(len(many))
     told = _body_pattern(many)
-    for row in sorted(_rows_of_sizes(len(many), greatest), key=lambda row: (sum(row), row)):
+    for row in sorted(_rows_of_sizes(len(many), greatest), key=lambda some: (sum(some), some)):
         if _goes_like(row, lots, told):
             return row
     return None

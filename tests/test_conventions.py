@@ -3,7 +3,8 @@ import inspect
 import random
 import unittest
 
-from termseats import counts, holds, houses, memory, orders, outlive, states, takes, years
+from termseats import (
+    counts, holds, houses, likes, memory, orders, outlive, phases, states, takes, texts, toldback, wides, years)
 from termseats.errors import SeatError
 from tests.things import small_house, some_letters, some_stand, things
 
@@ -35,7 +36,24 @@ INTERFACE = (
     (holds, "least_helps", ("house", "stand", "body"), ()),
     (takes, "cheapest", ("house", "stand", "last", "band", "body"), ()),
     (takes, "take_paper", ("house", "stand", "last", "band", "body"), ()),
-    (takes, "check_take", ("house", "stand", "last", "band", "body", "paper"), ()))
+    (takes, "check_take", ("house", "stand", "last", "band", "body", "paper"), ()),
+    (likes, "are_alike", ("house", "stand", "other", "far", "band"), ()),
+    (likes, "parting_rows", ("house", "stand", "other", "far", "band"), ()),
+    (likes, "hangs_on", ("house", "body"), ()), (likes, "core", ("house", "body"), ()),
+    (likes, "core_stand", ("house", "stand", "body"), ()),
+    (wides, "need_wide", ("wide",), ()), (wides, "sizes", ("wide",), ()), (wides, "pattern", ("wide",), ()),
+    (wides, "wide_run", ("wide", "stand", "rows"), ()), (wides, "wide_majorities", ("wide", "stand"), ()),
+    (wides, "like_sizes", ("wide", "greatest"), ()), (wides, "go_alike", ("wide", "other"), ()),
+    (toldback, "firm", ("house", "stand", "band", "seen"), ()),
+    (toldback, "first_false", ("house", "stand", "band", "seen"), ()),
+    (toldback, "many_rows", ("house", "stand", "band", "seen"), ()),
+    (toldback, "least_row", ("house", "stand", "band", "seen"), ()),
+    (toldback, "begins", ("house", "band", "seen"), ()),
+    (phases, "phases_of", ("house",), ()), (phases, "with_phases", ("house", "phases"), ()),
+    (phases, "loads", ("house",), ()), (phases, "busiest", ("house",), ()), (phases, "spread", ("house",), ()),
+    (texts, "house_text", ("house",), ()), (texts, "stand_text", ("house", "stand"), ()),
+    (texts, "rows_text", ("house", "rows"), ()), (texts, "read_house", ("text",), ()),
+    (texts, "read_stand", ("house", "text"), ()), (texts, "read_rows", ("house", "text"), ()))
 
 
 def functions():
@@ -51,20 +69,37 @@ def some_calls(many, seed):
         house = small_house(rng, bodies, wards, rng.randint(bodies, 4))
         given = right_arguments(rng, house, some_stand(rng, house))
         for function, names, named in functions():
-            values = dict(given, paper=right_paper(function, given))
+            values = dict(given, paper=right_paper(function, given), **of_one_module(rng, function, given))
             yield function, {name: values[name] for name in names}, {name: values[name] for name in named}
 
 
 def right_arguments(rng, house, stand):
-    """A right value for each name of a parameter, but for papers."""
+    """A right value for each name of a parameter, but for papers and for what of_one_module gives."""
     rows = [some_letters(rng, house[1]) for _ in range(rng.randint(0, 9))]
     return {
         "house": house, "stand": stand, "other": some_stand(rng, house), "last": some_letters(rng, house[1]),
-        "others": [some_letters(rng, house[1]) for _ in rows], "seats": ((0, 0),), "wards": tuple(range(house[1])), "band": (rng.choice((None, 0, 4)), rng.randint(1, 2)),
+        "others": [some_letters(rng, house[1]) for _ in rows], "seats": ((0, 0),), "wards": tuple(range(house[1])),
+        "band": (rng.choice((None, 0, 4)), rng.randint(1, 2)),
         "number": rng.randint(0, 10 ** 30), "choices": some_letters(rng, house[1]),
-        "rows": rows,
-        "body": rng.randrange(len(house[0])), "many": rng.randint(0, 9), "state": (stand, 0, "", ()),
-        "least": rng.choice((False, True))}
+        "rows": rows, "body": rng.randrange(len(house[0])), "many": rng.randint(0, 9), "state": (stand, 0, "", ()),
+        "least": rng.choice((False, True)), "greatest": rng.randint(1, 5), "far": some_stand(rng, house),
+        "seen": ["".join([rng.choice("ab=???") for _ in house[0]]) for _ in range(rng.randint(0, 3))],
+        "phases": tuple([tuple([rng.randrange(seat[0]) for seat in body]) for body in house[0]])}
+
+
+def of_one_module(rng, function, given):
+    """Right values where a name means something else in the module of a function than in the others."""
+    house = given["house"]
+    if function.__module__ == "termseats.likes":
+        return {"other": house}
+    if function.__module__ == "termseats.wides":
+        wide = lambda: (tuple([
+            tuple([seat + (rng.randint(1, 10 ** 30),) for seat in body[:4]]) for body in house[0]]), house[1])
+        return {"wide": wide(), "other": wide(), "stand": tuple([letters[:4] for letters in given["stand"]])}
+    words = {
+        "read_house": lambda: texts.house_text(house), "read_stand": lambda: texts.stand_text(house, given["stand"]),
+        "read_rows": lambda: texts.rows_text(house, given["rows"])}
+    return {"text": words[function.__name__]()} if function.__name__ in words else {}
 
 
 def right_paper(function, given):
@@ -159,13 +194,17 @@ class Unchanged(unittest.TestCase):
         self.assertEqual(wrong, before)
 
     def test_iterators_are_not_used_up(self):
-        right = {"house": ((((1, 0, ("ward", 0)),),), 1), "stand": ("a",), "number": 0, "choices": "a", "rows": (),
+        house = ((((1, 0, ("ward", 0)),),), 1)
+        right = {"house": house, "stand": ("a",), "number": 0, "choices": "a", "rows": (),
                  "band": (None, 1), "body": 0, "many": 0, "state": None, "paper": None, "other": ("a",), "others": (),
-                 "last": "a", "seats": (), "wards": ()}
+                 "last": "a", "seats": (), "wards": (), "wide": ((((1, 0, ("ward", 0), 5),),), 1), "greatest": 1,
+                 "far": ("a",), "seen": (), "phases": ((0,),), "text": "a"}
         for function, names, _ in functions():
             for name in names:
                 iterator = iter(["a", "b"])
                 given = {one: right[one] for one in names}
+                if function in (likes.are_alike, likes.parting_rows):
+                    given["other"] = house
                 given[name] = iterator
                 kind, told, *_ = answer(function, list(given.values()), {})
                 self.assertEqual((kind, told) if name == "state" else kind,

@@ -11,8 +11,10 @@ LIBRARY = {
     "heapq": {"heappush", "heappop", "heapify", "heapreplace", "heappushpop"},
     "math": {"gcd", "lcm", "isqrt", "comb", "perm", "factorial"},
     "itertools": {"product", "combinations", "permutations"}}
+# An interactive session, and a test of examples, keeps the last result among the builtins as _.
+NAMES = set(dir(builtins)) - {"_"}
 BUILTINS = set("""len range enumerate zip min max sum abs sorted reversed int str bool list tuple dict set isinstance ord
-    any all divmod ValueError OverflowError""".split())
+    any all divmod property ValueError OverflowError""".split())
 METHODS = set("""append clear copy count endswith extend find get index insert isalnum isalpha isdigit items join keys
     ljust lower lstrip partition pop remove replace reverse rfind rjust rpartition rsplit rstrip setdefault split
     splitlines startswith strip update upper values zfill""".split())
@@ -95,14 +97,27 @@ class Files(unittest.TestCase):
             for node in ast.walk(tree):
                 if isinstance(node, (ast.FunctionDef, ast.Lambda)):
                     self.assertEqual(bound_names(node) & (first | second), set(), path)
-                    self.assertEqual(bound_names(node) & set(dir(builtins)), set(), path)
-            self.assertEqual((first | second) & set(dir(builtins)), set(), path)
+                    self.assertEqual(bound_names(node) & NAMES, set(), path)
+            self.assertEqual((first | second) & NAMES, set(), path)
+
+    def test_attributes_methods_and_properties_have_names_of_their_own(self):
+        methods, properties, attributes = set(), set(), set()
+        for _, tree in self.trees:
+            for node in ast.walk(tree):
+                if isinstance(node, ast.ClassDef):
+                    for one in node.body:
+                        if isinstance(one, ast.FunctionDef):
+                            (properties if one.decorator_list else methods).add(one.name)
+                if isinstance(node, ast.Attribute) and isinstance(node.ctx, ast.Store):
+                    attributes.add(node.attr)
+        self.assertEqual(properties, {"house", "stand", "number", "led"})
+        self.assertEqual([methods & properties, methods & attributes, properties & attributes], [set()] * 3)
 
     def test_builtins_and_methods(self):
         own = {node.name for _, tree in self.trees for node in ast.walk(tree) if isinstance(node, ast.FunctionDef)}
         for path, tree in self.trees:
             for node in ast.walk(tree):
-                if isinstance(node, ast.Name) and node.id in dir(builtins):
+                if isinstance(node, ast.Name) and node.id in NAMES:
                     self.assertIn(node.id, BUILTINS, path)
                 if isinstance(node, ast.Call) and isinstance(node.func, ast.Attribute):
                     self.assertIn(node.func.attr, METHODS | own, path)
