@@ -19,38 +19,32 @@ def _need_two(house, stand, other, far, band):
 
 
 class Parting:
-    """The years of two houses beside one another, up to the first in which the majorities are unlike.
+    """The years of two houses beside one another, from a pair of states up to the first with unlike majorities.
 
-    A pair of states is a tuple of both stands, the year, LAST and AGES. way is that of as few choices as can be
-    to unlike majorities, as rows_by takes it, None if there is none. TooGreat of too many pairs.
+    A pair of states is a tuple of both stands, the year, LAST and AGES. TooGreat of too many pairs.
     """
 
-    def __init__(self, house, other, band):
+    def __init__(self, house, stand, other, far, band):
         # The rest of a year by this tells both YEARS.
         self.years = lcm(common_term(house[0]), common_term(other[0]))
         self.turns = Turns(house[1], band, band != ANY)
         self.stands = Stands(house)
         self.fars = Stands(other)
-        self.ways = {}
-        self.way = None
-
-    def rows_from(self, stand, far):
-        """As few choices as can be behind which the majorities are unlike, None if they never are."""
         first = (stand, far, 0, "", ())
         self.ways = {first: None}
-        self.way = None
+        # As few choices as can be behind which the majorities are unlike, None if they never are.
+        self.rows = None
         level = [first]
-        while level and self.way is None:
+        while level:
             level = self._level_behind(level)
-        return None if self.way is None else rows_by(self.ways, self.way)
 
     def _level_behind(self, level):
-        """The pairs to which a year leads from these for the first time."""
+        """The pairs to which a year leads from these for the first time, none if the majorities are unlike there."""
         fresh = []
         for pair in level:
             for choices, behind in self._steps_from(pair).items():
                 if self.stands.with_more(behind[0]) != self.fars.with_more(behind[1]):
-                    self.way = (pair, choices)
+                    self.rows = rows_by(self.ways, (pair, choices))
                     return []
                 if behind not in self.ways:
                     self.ways[behind] = (pair, choices)
@@ -73,13 +67,13 @@ class Parting:
 def are_alike(house, stand, other, far, band):
     """Whether two houses, each from a stand, have the same majorities behind each year by any choices."""
     _need_two(house, stand, other, far, band)
-    return Parting(house, other, band).rows_from(stand, far) is None
+    return Parting(house, stand, other, far, band).rows is None
 
 
 def parting_rows(house, stand, other, far, band):
     """As few choices as can be behind which two houses do not have the same majorities, None if they always have."""
     _need_two(house, stand, other, far, band)
-    return Parting(house, other, band).rows_from(stand, far)
+    return Parting(house, stand, other, far, band).rows
 
 
 def _bodies_under(house, body):

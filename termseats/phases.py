@@ -62,15 +62,16 @@ def busiest(house):
 def _with_seat(ways, term):
     """For all loads that come by one more seat of a term the first phases by which they do.
 
-    ways has these for the seats ahead. With the same loads the first phases stay first whatever comes behind them.
+    ways has these for the seats ahead, ascending. With the same loads the first phases stay first whatever comes
+    behind them.
     """
     more = {}
     for row, phases in ways.items():
         for phase in range(term):
             behind = tuple([load + (number % term == phase) for number, load in enumerate(row)])
-            longer = phases + (phase,)
-            if behind not in more or longer < more[behind]:
-                more[behind] = longer
+            # Phases are gone through ascending, so the first ones that lead to some loads stand there already.
+            if behind not in more:
+                more[behind] = phases + (phase,)
     return more
 
 

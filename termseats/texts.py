@@ -99,8 +99,8 @@ def read_rows(house, text):
     if text == "none":
         return ()
     rows = []
-    # There is one word at least.
-    while not rows or not lines[0].is_at_end():
+    # A line has one word at least, be it an empty one that is refused.
+    while not lines[0].is_at_end():
         rows.append(lines[0].take_choices(house[1]))
     need_no_more(lines, 1)
     return need_rows(house, tuple(rows))

@@ -107,7 +107,7 @@ def _need_few(level, many_stands):
     for mask in level.values():
         many[mask] = many.get(mask, 0) + 1
     for at in range(many_stands):
-        if sum([number for mask, number in many.items() if mask >> at & 1]) > MOST_STATES:
+        if sum([number for mask, number in many.items() if (mask >> at) & 1]) > MOST_STATES:
             raise TooGreat(MOST_STATES)
 
 
@@ -123,7 +123,7 @@ def _firm_letters(agreeing, number, level, behind, wards):
         for choices, later in agreeing.steps_in(number, state).items():
             if later in behind:
                 told[choices] = True
-    return "".join([_one_letter([choices[ward] for choices in told]) for ward in range(wards)])
+    return "".join([_one_letter([row[ward] for row in told]) for ward in range(wards)])
 
 
 def firm(house, stand, band, seen):

@@ -94,7 +94,7 @@ def pattern(wide):
     return _pattern(wide)
 
 
-def _mores(stand, counted):
+def _sides_of(stand, counted):
     """For each body the side that has more seats, "=" if none has."""
     return tuple([_side_of(letters, many) for letters, many in zip(stand, counted)])
 
@@ -109,7 +109,7 @@ def _stand_behind(wide, stand, number, choices):
     bodies = wide[0]
     counted = _sizes(wide)
     resting = [_resting_lot(groups, letters, number) for groups, letters in zip(bodies, stand)]
-    places = sources(bodies, stand, number, _mores(stand, counted), _mores(resting, counted))
+    places = sources(bodies, stand, number, _sides_of(stand, counted), _sides_of(resting, counted))
     return stand_of(places, choices)
 
 
@@ -128,7 +128,7 @@ def wide_run(wide, stand, rows):
 def wide_majorities(wide, stand):
     """For each body the side that has more seats, "=" if none has."""
     _need_wide_stand(wide, stand)
-    return _mores(stand, _sizes(wide))
+    return _sides_of(stand, _sizes(wide))
 
 
 def _rows_of_sizes(groups, greatest):
